@@ -453,6 +453,20 @@ func TestGetThatAsksTheReplay(t *testing.T) { // R1
 	}
 }
 
+func TestGetThatPanics(t *testing.T) { // R1, R2
+	broken := func(t, shard, local int) (api.Record, api.Errno) { panic("no such shard") }
+	g := aRegister(t, 1, mixed())
+	for _, bad := range []Get{broken, nil} {
+		r := fresh(t, 1)
+		if l, err := r.All(g, bad); err != api.ErrArg || !slices.EqualFunc(l, itemsOfMixed(1)[:1], alike) {
+			t.Fatalf("All = %v, %d", l, err)
+		}
+		wantError(t, r, g, bad, api.ErrArg)
+		wantAt(t, r, 1, 1, 0)
+		wantAll(t, r, g, itemsOfMixed(1)[1:], api.ErrReplayWait)
+	}
+}
+
 func TestWhatWasHandedInStaysAsItWas(t *testing.T) { // R5
 	g := aRegister(t, 1, mixed())
 	r := fresh(t, 1)
